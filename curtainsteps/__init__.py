@@ -1,0 +1,1 @@
+"""Curtainsteps: tables of fair steps from one share of numbers to a wider one."""
