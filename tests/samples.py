@@ -127,6 +127,15 @@ def drawn_pairs(many, seed, most=5):
     return pairs
 
 
+def full_table():
+    """A TABLE of 64 steps."""
+    weights = {(x, y): Fraction(1) for x in range(-4, 4) for y in (-100, -60, -30, -10, 10, 30, 60, 100)}
+    for x in range(-4, 4):
+        # The ends are even on both sides: what is more at one of the outmost ones makes the mean x.
+        weights[x, 100 if x > 0 else -100] += Fraction(8 * abs(x), 100 - abs(x))
+    return oracle.table_of(weights)
+
+
 class Case(unittest.TestCase):
     """A test case that knows how a call is refused."""
 

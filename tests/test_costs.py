@@ -34,7 +34,8 @@ class NeedCosts(samples.Case):
     def test_what_are_none(self):
         row = COSTS[0]
         for thing in samples.STRANGE + [
-            (), (row,), (row, row, row), row, "costs", 0, [row, row], (row, list(row)), (row, row[:3]), (row, row + (0,)),
+            (), (row,), (row, row, row), row, "costs", 0, [row, row], (row, list(row)), (row, row[:3]),
+            (row, row + (0,)),
             (row[:3], row), (row, None), (None, row), (row, "1234"), (row, ()), ((), ()), (row, {1: 2}), (row, 5),
             (row, (1, 2, 3, True)), (row, (False, 2, 3, 4)), (row, (1, 2, 3, None)), (row, (1, 2, 3, "4")),
             (row, (1, 2, 3, (4,))), (row, (1, 2, 3, 1001)), (row, (-1001, 2, 3, 4)), ((1001, 2, 3, 4), row),

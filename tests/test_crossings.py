@@ -58,7 +58,7 @@ class Crossings(samples.Case):
 
     def test_by_the_words_and_ascending(self):
         many = 0
-        for table in drawn_tables(60, 30) + [full_table()]:
+        for table in drawn_tables(60, 30) + [samples.full_table()]:
             found = crossings.crossings(table)
             self.same(oracle.crossings(table), crossings.crossings, table)
             self.assertEqual(list(found), sorted(set(found)))
@@ -80,14 +80,6 @@ class Crossings(samples.Case):
         for table in drawn_tables(60, 32):
             left = left_table(oracle.start(table), oracle.end(table))
             self.same(table == left, crossings.is_left, table)
-
-
-def full_table():
-    """A TABLE of 64 steps."""
-    weights = {(x, y): Fraction(1) for x in range(-4, 4) for y in (-90, -60, -30, -10, 10, 30, 60, 90)}
-    for x in range(-4, 4):
-        weights[x, 90 if x > 0 else -90] += Fraction(8 * abs(x), 90 - abs(x))
-    return oracle.table_of(weights)
 
 
 class Mended(samples.Case):
@@ -151,7 +143,8 @@ class Mended(samples.Case):
             (False, 1, -1, 0, 2), (0, 1, -1, False, 2), (0, 1, -1, True, 2), (1, 0, -1, 0, 2), (0, 1, -1, 2, 2),
             (0, 1, 2, 0, -1), (0, 1, 0, 0, 2), (0, 0, -1, 0, 2), (0, 1, -1, -1, 2), (0, 2, -1, 0, 2), (0, 1, -1, 0, 3),
             (0, 1, -2, 0, 2), (None,) * 5, (0, 1, -1, 0, None), ("0", "1", "-1", "0", "2"), ((0, 1), -1, 0, 2, 2),
-            ((0, 1, -1, 0, 2),), samples.Row((0, 1, -1, 0, 2)), (samples.Whole(0), 1, -1, 0, 2), (0, 1, -1, 0, 10 ** 30),
+            ((0, 1, -1, 0, 2),), samples.Row((0, 1, -1, 0, 2)), (samples.Whole(0), 1, -1, 0, 2),
+            (0, 1, -1, 0, 10 ** 30),
             (0, 1, -1, 0, samples.Agreeing()), (samples.Agreeing(),) * 5, 0, 5, CROSSING + (0,), ([], 1, -1, 0, 2),
         ]:
             self.refuses(BadCrossing, "given", thing, crossings.mended, table, thing)
@@ -178,7 +171,7 @@ class Bend(samples.Case):
         self.same((9, 1), crossings.bend, ((-1, -1, (1, 1)), (0, 0, (1, 1)), (1, -1, (1, 1)), (1, 3, (1, 1))))
 
     def test_by_the_words(self):
-        for table in drawn_tables(40, 37) + [full_table()]:
+        for table in drawn_tables(40, 37) + [samples.full_table()]:
             self.same(oracle.told(oracle.bend(table)), crossings.bend, table)
 
     def test_left_table_has_the_greatest(self):

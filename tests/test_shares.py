@@ -174,7 +174,8 @@ class Papers(samples.Case):
             "", "total", 1, (), ("",), ("tables", TABLE), ("table",), ("table", TABLE, 1), ("total", 1), ("moment", 0),
             ("mark",), ("mark", 0, 0), (None,), (True, 0), (("total",),), (["total"],), ("Total",), ("total ",),
             (b"total",), ["total"], ["mark", 0], (samples.Word("total"),), samples.Row(("total",)), (1, 2), ({},),
-            (samples.Agreeing(),), (samples.Agreeing(), 0), (samples.namesake("str"),), (0, "mark"), ("fair",), ("shadow", TABLE, ()), (str,),
+            (samples.Agreeing(),), (samples.Agreeing(), 0), (samples.namesake("str"),), (0, "mark"),
+            ("fair",), ("shadow", TABLE, ()), (str,),
         ]
         for paper in papers:
             self.refuses_part(BadPaper, "form", shares.check_wider, HALVES, ONE, paper)

@@ -21,27 +21,15 @@ NOT_WIDER = [
 ]
 
 
-def full_table():
-    """A TABLE of 64 steps."""
-    ends = [-100, -60, -30, -10, 10, 30, 60, 100]
-    weights = {}
-    for x in range(-4, 4):
-        for y in ends:
-            weights[x, y] = Fraction(1)
-        outer = 100 if x > 0 else -100
-        weights[x, outer] += Fraction(8 * abs(x), 100 - abs(x))
-    return oracle.table_of(weights)
-
-
 class NeedTable(samples.Case):
     def test_the_thing_itself(self):
         for table in [
-            (), LEFT, RIGHT, full_table(), ((-100, -100, (1, BIG)),), ((100, 100, (BIG, 1)),),
+            (), LEFT, RIGHT, samples.full_table(), ((-100, -100, (1, BIG)),), ((100, 100, (BIG, 1)),),
             ((0, -100, (1, 2)), (0, 100, (1, 2))), tuple((x, x, (1, 3)) for x in range(-100, -92)),
             ((99, 98, (1, 2)), (99, 100, (1, 2))), ((3, 2, (2, 3)), (3, 5, (1, 3)), (4, 2, (1, 1)), (4, 6, (1, 1))),
         ]:
             self.assertIs(tables.need_table(table), table)
-        self.assertEqual(len(full_table()), 64)
+        self.assertEqual(len(samples.full_table()), 64)
 
     def test_eight_unlike_numbers_and_nine(self):
         eight = tuple((0, y, (1, 8)) for y in range(-4, 5) if y != 0)
@@ -57,11 +45,12 @@ class NeedTable(samples.Case):
         self.assertEqual(tables.need_table(nine[:-2]), nine[:-2])
 
     def test_one_more_step(self):
-        for table in [full_table() + ((4, 4, (1, 1)),), full_table() * 2, ((-5, -5, (1, 1)),) + full_table()]:
+        full = samples.full_table()
+        for table in [full + ((4, 4, (1, 1)),), full * 2, ((-5, -5, (1, 1)),) + full]:
             self.refuses(BadTable, "given", table, tables.need_table, table)
 
     def test_a_weight_otherwise(self):
-        for table in [LEFT, RIGHT, full_table()]:
+        for table in [LEFT, RIGHT, samples.full_table()]:
             for at, (x, y, weight) in enumerate(table):
                 if x != y:
                     other = table[:at] + ((x, y, (weight[0] + weight[1], weight[1])),) + table[at + 1:]
@@ -82,8 +71,8 @@ class NeedTable(samples.Case):
         self.same((), tables.start_of, ())
         self.same((), tables.end_of, ())
         self.same(((3, (1, BIG)),), tables.start_of, ((3, 2, (1, 2 * BIG)), (3, 4, (1, 2 * BIG))))
-        self.same(oracle.start(full_table()), tables.start_of, full_table())
-        self.same(oracle.end(full_table()), tables.end_of, full_table())
+        self.same(oracle.start(samples.full_table()), tables.start_of, samples.full_table())
+        self.same(oracle.end(samples.full_table()), tables.end_of, samples.full_table())
 
     def test_what_is_no_table(self):
         for thing in samples.NO_TABLES:
