@@ -26,6 +26,12 @@ def rest_of(share, mark):
     return sum_of([scaled(weight, number - mark) for number, weight in share if number > mark])
 
 
+def is_within(one, other):
+    """Whether the first one is within the second one."""
+    there = dict(other)
+    return all([number in there and not is_below(there[number], weight) for number, weight in one])
+
+
 def has_lesser_rest(one, other, mark):
     """Whether the second one has the lesser REST above a mark."""
     return is_below(rest_of(other, mark), rest_of(one, mark))

@@ -45,6 +45,16 @@ def is_fraction(thing):
     return thing[1] >= 1 and gcd(thing[0], thing[1]) == 1
 
 
+def is_fraction_row(thing, many):
+    """Whether it is a plain tuple of so many FRACTIONS."""
+    return is_row_of(thing, many) and all([is_fraction(item) for item in thing])
+
+
+def is_amount_row(thing, many):
+    """Whether it is a plain tuple of so many FRACTIONS from nought on."""
+    return is_fraction_row(thing, many) and all([top >= 0 for top, _ in thing])
+
+
 def is_weight(thing):
     """Whether it is a WEIGHT."""
     return is_fraction(thing) and thing[0] > 0

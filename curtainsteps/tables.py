@@ -40,15 +40,25 @@ def need_wider(one, other):
 
 
 def built(one, other, order):
-    """The TABLE BY an ORDER, other being WIDER than one."""
+    """The TABLE in which pairs of one go to WINDOWS of what is left of other, in that order.
+
+    None if a WINDOW is lacking; this is never so if other is WIDER than one.
+    """
     steps = []
     left = other
     for place in order:
         x, weight = one[place]
         target = window(left, x, weight)
+        if target is None:
+            return None
         steps.extend([(x, y, part) for y, part in target])
         left = taken_from(left, target)
     return tuple(sorted(steps))
+
+
+def built_from_left(one, other):
+    """The one by the ascending ORDER."""
+    return built(one, other, list(range(len(one))))
 
 
 def table_by(one, other, order):
@@ -64,7 +74,7 @@ def table_by(one, other, order):
 def left_table(one, other):
     """The LEFT TABLE from one to other."""
     need_wider(need_share(one), need_share(other))
-    return built(one, other, list(range(len(one))))
+    return built_from_left(one, other)
 
 
 def right_table(one, other):

@@ -1,6 +1,6 @@
 """Windows: what a share has between two cuts."""
 
-from curtainsteps.amounts import moment_of, total_of
+from curtainsteps.amounts import is_within, moment_of, total_of
 from curtainsteps.errors import BadWeight
 from curtainsteps.exact import NOUGHT, divided, is_below, lesser, lessened, scaled
 from curtainsteps.forms import is_share
@@ -11,12 +11,8 @@ from curtainsteps.shares import need_share
 def is_window(share, value):
     """Whether any value is a WINDOW of a SHARE."""
     need_share(share)
-    if not is_share(value) or value == ():
+    if not is_share(value) or value == () or not is_within(value, share):
         return False
-    there = dict(share)
-    for number, weight in value:
-        if number not in there or is_below(there[number], weight):
-            return False
     low = value[0][0]
     high = value[-1][0]
     return all([pair in value for pair in share if low < pair[0] and pair[0] < high])

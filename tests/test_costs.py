@@ -10,16 +10,8 @@ from curtainsteps import costs
 from curtainsteps.errors import BadCosts, BadShare, BadTable
 from curtainsteps.tables import left_table, right_table, table_by
 
-ONE = ((0, (1, 2)), (1, (1, 2)))
-OTHER = ((-1, (1, 4)), (0, (1, 4)), (1, (1, 4)), (2, (1, 4)))
-COSTS = ((1, 2, 3, 4), (-5, 0, 1000, -1000))
+ONE, OTHER, COSTS = samples.ONE, samples.OTHER, samples.COSTS
 BIG = 10 ** 20 + 39
-
-
-def cost(one, other, rows, table):
-    """Point [10] in its own words."""
-    starts, ends = [number for number, _ in one], [number for number, _ in other]
-    return sum((oracle.worth(weight) * rows[starts.index(x)][ends.index(y)] for x, y, weight in table), Fraction(0))
 
 
 class NeedCosts(samples.Case):
@@ -32,17 +24,7 @@ class NeedCosts(samples.Case):
             self.assertIs(costs.need_costs(one, other, thing), thing)
 
     def test_what_are_none(self):
-        row = COSTS[0]
-        for thing in samples.STRANGE + [
-            (), (row,), (row, row, row), row, "costs", 0, [row, row], (row, list(row)), (row, row[:3]),
-            (row, row + (0,)),
-            (row[:3], row), (row, None), (None, row), (row, "1234"), (row, ()), ((), ()), (row, {1: 2}), (row, 5),
-            (row, (1, 2, 3, True)), (row, (False, 2, 3, 4)), (row, (1, 2, 3, None)), (row, (1, 2, 3, "4")),
-            (row, (1, 2, 3, (4,))), (row, (1, 2, 3, 1001)), (row, (-1001, 2, 3, 4)), ((1001, 2, 3, 4), row),
-            (row, (1, 2, 3, 10 ** 30)), (row, (1, 2, 3, -10 ** 30)), (row, (1, 2, 3, Fraction(4))), ((1, 2),) * 4,
-            (row, samples.Row(row)), samples.Row((row, row)), (row, (1, 2, 3, samples.Whole(4))),
-            (row, (1, 2, 3, samples.Agreeing())), (row, (1, 2, 3, [])), ((), (row, row)),
-        ]:
+        for thing in samples.NO_COSTS:
             self.refuses(BadCosts, "given", thing, costs.need_costs, ONE, OTHER, thing)
             self.refuses(BadCosts, "given", thing, costs.cost_of, ONE, OTHER, thing, ())
             self.refuses(BadCosts, "given", thing, costs.cost_of, ONE, OTHER, thing, None)
@@ -71,7 +53,7 @@ class CostOf(samples.Case):
             chance.shuffle(order)
             answers = set()
             for table in [left_table(one, other), right_table(one, other), table_by(one, other, tuple(order))]:
-                self.same(oracle.told(cost(one, other, rows, table)), costs.cost_of, one, other, rows, table)
+                self.same(oracle.told(oracle.cost(one, other, rows, table)), costs.cost_of, one, other, rows, table)
                 answers.add(costs.cost_of(one, other, rows, table))
             unlike += len(answers) > 1
         self.assertGreater(unlike, 15)
