@@ -24,6 +24,32 @@ LISTED = {
     },
     "crossings": {"crossings": "table", "is_left": "table", "mended": "table crossing", "bend": "table"},
     "costs": {"need_costs": "one other thing", "cost_of": "one other costs table"},
+    "kinds": {
+        "bends_up": "one other costs", "bends_down": "one other costs", "kind_of": "one other costs",
+        "kind_paper": "one other costs", "check_kind": "one other costs paper",
+    },
+    "cheapest": {
+        "cheapest_cost": "one other costs", "dearest_cost": "one other costs", "cheapest_paper": "one other costs",
+        "dearest_paper": "one other costs", "check_cheapest": "one other costs paper",
+        "check_dearest": "one other costs paper", "gap": "one other costs",
+    },
+    "shadows": {
+        "is_part": "one other", "shadow": "one other", "shadow_paper": "one other", "check_shadow": "one other paper",
+    },
+    "days": {
+        "need_days": "thing", "paths_of": "days", "beginnings": "days", "open_numbers": "days", "is_fair": "days value",
+        "fair_share": "days",
+    },
+    "books": {
+        "need_book": "days thing", "mean_of": "days fair claim", "does_keep": "days fair book",
+        "is_hedge": "days book value", "pays": "days book hedge", "costs": "days book hedge",
+    },
+    "fairness": {"fair_paper": "days book", "check_fair": "days book paper"},
+    "bounds": {
+        "greatest_mean": "days book claim", "least_mean": "days book claim", "is_told": "days book claim",
+        "greatest_paper": "days book claim", "least_paper": "days book claim",
+        "check_greatest": "days book claim paper", "check_least": "days book claim paper",
+    },
 }
 
 
