@@ -6,6 +6,8 @@ A class that comes from int, str or tuple does not count: what the package takes
 from math import gcd
 
 MOST_PAIRS = 8
+MOST_LETTERS = 8
+LETTERS = "abcdefghijklmnopqrstuvwxyz"
 
 
 def is_whole(thing):
@@ -16,6 +18,13 @@ def is_whole(thing):
 def is_word(thing):
     """Whether it is a plain string."""
     return isinstance(thing, str) and thing.__class__.__name__ == "str"
+
+
+def is_label(thing):
+    """Whether it is a LABEL."""
+    if not is_word(thing) or len(thing) == 0 or len(thing) > MOST_LETTERS:
+        return False
+    return all([letter in LETTERS for letter in thing])
 
 
 def is_row(thing):

@@ -126,6 +126,13 @@ NO_DAYS = STRANGE + [
     ((Fraction(1),),), ((), ()), (((0, (1, 1)),),),
 ]
 
+# What is no LABEL.
+NO_LABELS = STRANGE + [
+    "", "abcdefghi", "a" * 9, "a" * 300, "A", "aB", "Ab", "Z", "a1", "1", "0", "a b", " ", " a", "a ", "a\n", "\n", "-",
+    "a-b", "a_b", "a.", "{", "`", "@", "[", 0, 1, (), ("a",), ("a", "b"), ["a"], {"a": 1}, Word("a"), Word(""),
+    10 ** 30, "a\x00", "\u00e9", "\u0430", "a\u0301",
+]
+
 
 def no_claims(many):
     """What are no CLAIMS of DAYS with so many PATHS, one at least."""
@@ -290,14 +297,19 @@ class Case(unittest.TestCase):
         self.assertIs(getattr(caught.exception, attribute), thing, ahead)
         self.assertEqual(repr(passed), ahead)
 
-    def refuses_part(self, error, part, call, *passed):
-        """The call raises just this error with an equal part, and changes nothing that it is passed."""
+    def refuses_telling(self, error, told, call, *passed):
+        """The call raises just this error with equal attributes, twice, and changes nothing that it is passed."""
         ahead = repr(passed)
-        with self.assertRaises(error, msg=ahead) as caught:
-            call(*passed)
-        self.assertIs(caught.exception.__class__, error, ahead)
-        self.assertEqual(caught.exception.part, part, ahead)
+        for _ in range(2):
+            with self.assertRaises(error, msg=ahead) as caught:
+                call(*passed)
+            self.assertIs(caught.exception.__class__, error, ahead)
+            self.assertEqual(repr(vars(caught.exception)), repr(told), ahead)
         self.assertEqual(repr(passed), ahead)
+
+    def refuses_part(self, error, part, call, *passed):
+        """The call raises just this error with an equal part."""
+        self.refuses_telling(error, {"part": part}, call, *passed)
 
     def refuses_paper(self, error, check, call, *passed):
         """The call raises just this error, its paper being such that check takes it."""

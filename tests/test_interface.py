@@ -50,6 +50,19 @@ LISTED = {
         "greatest_paper": "days book claim", "least_paper": "days book claim",
         "check_greatest": "days book claim paper", "check_least": "days book claim paper",
     },
+    "chained": {
+        "share_of_day": "days fair day", "table_of_day": "days fair day", "days_of": "tables", "chained": "tables",
+    },
+    "terms": {"need_term": "thing", "kids_of": "term", "claim_of": "days term"},
+    "mixes": {"need_mix": "thing", "share_of": "mix", "parts_of": "mix"},
+    "pricebook": {"under": "manager deed"},
+}
+# Of each class what it is made with, its properties, and its methods behind the object itself.
+CLASSES = {
+    "Pricebook": ("pricebook", "days", ["days", "book"], {
+        "labels": "", "put": "label claim bid ask", "change": "label bid ask", "take": "label", "bounds_of": "claim",
+        "quote": "label", "undo": "many", "copy": "", "trial": "", "__len__": "", "__eq__": "other",
+    }),
 }
 
 
@@ -62,6 +75,24 @@ class Interface(unittest.TestCase):
                 self.assertTrue(inspect.isfunction(function), name)
                 self.assertEqual(function.__module__, "curtainsteps." + file)
                 self.assertEqual(list(inspect.signature(function).parameters), arguments.split(), name)
+
+    def test_classes(self):
+        for name, (file, made_with, properties, methods) in CLASSES.items():
+            made = getattr(importlib.import_module("curtainsteps." + file), name)
+            self.assertTrue(inspect.isclass(made), name)
+            self.assertEqual(made.__module__, "curtainsteps." + file)
+            self.assertEqual(list(inspect.signature(made).parameters), made_with.split(), name)
+            for told in properties:
+                self.assertIsInstance(vars(made)[told], property, told)
+                self.assertIsNone(vars(made)[told].fset, told)
+            for method, arguments in methods.items():
+                function = vars(made)[method]
+                self.assertTrue(inspect.isfunction(function), method)
+                self.assertEqual(list(inspect.signature(function).parameters)[1:], arguments.split(), method)
+
+    def test_what_may_be_left_out(self):
+        undo = vars(importlib.import_module("curtainsteps.pricebook").Pricebook)["undo"]
+        self.assertEqual(inspect.signature(undo).parameters["many"].default, 1)
 
     def test_wrong_numbers_of_arguments(self):
         for file, functions in LISTED.items():

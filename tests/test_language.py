@@ -34,6 +34,7 @@ BARRED_WORDS = re.compile(
     r"\b(type|typing|typing_extensions|enum|Enum|IntEnum|StrEnum|Flag|IntFlag|Generic|Protocol|ABC|ABCMeta|namedtuple|"
     r"NamedTuple|TypedDict|TYPE_CHECKING|abstractmethod)\b|dataclass|overload|contextmanager|_wall|_WallAttr"
 )
+DOUBLE = ("__init__", "__enter__", "__exit__", "__len__", "__eq__", "__contains__")
 BARRED_NODES = (
     ast.Global, ast.AsyncFunctionDef, ast.AsyncFor, ast.AsyncWith, ast.Await, ast.Import, ast.AnnAssign, ast.Div,
     ast.MatMult,
@@ -194,6 +195,63 @@ class Code(unittest.TestCase):
                     self.assertIn(node.func.attr, METHODS | own, (path, node.lineno))
                 if isinstance(node, ast.Attribute) and node.attr.startswith("__"):
                     self.assertIn(node.attr, ("__class__", "__name__"), (path, node.lineno))
+
+
+class Classes(unittest.TestCase):
+    def test_names(self):
+        methods, attributes, properties = {}, {}, {}
+        for tree in TREES.values():
+            for made in [node for node in tree.body if isinstance(node, ast.ClassDef)]:
+                functions = [node for node in made.body if isinstance(node, ast.FunctionDef)]
+                called = {n.name for n in functions}
+                self.assertEqual(len(called), len(functions), made.name)
+                methods[made.name] = {n.name for n in functions if not n.decorator_list}
+                properties[made.name] = called - methods[made.name]
+                attributes[made.name] = {
+                    n.attr for n in ast.walk(made) if isinstance(n, ast.Attribute) and isinstance(n.ctx, ast.Store)
+                }
+        stored = set().union(*attributes.values())
+        told = set().union(*properties.values())
+        self.assertFalse(stored & (told | set().union(*methods.values()) | METHODS))
+        self.assertFalse(told & (set().union(*methods.values()) | METHODS))
+        self.assertFalse({"args"} & (stored | told))
+        read = {n.attr for t in TREES.values() for n in ast.walk(t) if isinstance(n, ast.Attribute)}
+        self.assertLessEqual(read - stored - told - METHODS - {"__class__", "__name__"}, set().union(*methods.values()))
+
+    def test_decorators_and_two_underscores(self):
+        for path, tree in TREES.items():
+            for node in ast.walk(tree):
+                if isinstance(node, ast.FunctionDef):
+                    self.assertIn([ast.unparse(n) for n in node.decorator_list], ([], ["property"]), (path, node.name))
+                    if node.name.startswith("__"):
+                        self.assertIn(node.name, DOUBLE, path)
+                if isinstance(node, ast.ClassDef):
+                    self.assertEqual(node.decorator_list, [], path)
+                    self.assertLessEqual(len(node.bases), 1, path)
+
+    def test_what_a_with_statement_ends_with(self):
+        for path, tree in TREES.items():
+            for node in ast.walk(tree):
+                if isinstance(node, ast.FunctionDef) and node.name == "__exit__":
+                    self.assertEqual([n.arg for n in node.args.args], ["self", "kind", "value", "trace"], path)
+                    for row in node.body:
+                        self.assertIsInstance(row, ast.Assign, path)
+                        self.assertIsInstance(row.value, ast.Attribute, path)
+
+    def test_what_is_caught(self):
+        own = {n.name for n in TREES[os.path.join("curtainsteps", "errors.py")].body if isinstance(n, ast.ClassDef)}
+        for path, tree in TREES.items():
+            for node in ast.walk(tree):
+                if isinstance(node, ast.ExceptHandler):
+                    names = node.type.elts if isinstance(node.type, ast.Tuple) else [node.type]
+                    self.assertLessEqual({n.id for n in names}, own | {"KeyError", "ZeroDivisionError"}, path)
+
+    def test_what_is_raised(self):
+        for path, tree in TREES.items():
+            for node in ast.walk(tree):
+                if isinstance(node, ast.Raise):
+                    self.assertIsInstance(node.exc, ast.Call, path)
+                    self.assertIsInstance(node.exc.func, ast.Name, path)
 
 
 if __name__ == "__main__":
