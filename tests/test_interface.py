@@ -2,7 +2,10 @@
 
 import importlib
 import inspect
+import os
 import unittest
+
+ROOT = os.path.dirname(os.path.dirname(os.path.abspath(__file__)))
 
 LISTED = {
     "ratios": {
@@ -56,6 +59,11 @@ LISTED = {
     "terms": {"need_term": "thing", "kids_of": "term", "claim_of": "days term"},
     "mixes": {"need_mix": "thing", "share_of": "mix", "parts_of": "mix"},
     "pricebook": {"under": "manager deed"},
+    "texts": {
+        "term_text": "term", "mix_text": "mix", "share_text": "share", "table_text": "table", "days_text": "days",
+        "read_term": "text", "read_mix": "text", "read_share": "text", "read_table": "text", "read_days": "text",
+    },
+    "judge": {"judged": "text"},
 }
 # Of each class what it is made with, its properties, and its methods behind the object itself.
 CLASSES = {
@@ -63,6 +71,11 @@ CLASSES = {
         "labels": "", "put": "label claim bid ask", "change": "label bid ask", "take": "label", "bounds_of": "claim",
         "quote": "label", "undo": "many", "copy": "", "trial": "", "__len__": "", "__eq__": "other",
     }),
+    "Shelf": ("shelf", "", [], {
+        "put": "label term", "take": "label", "seek": "label", "labels": "", "alike": "days", "paying": "days label",
+        "__len__": "", "__contains__": "label", "__eq__": "other",
+    }),
+    "Desk": ("desk", "text", ["pricebook"], {"say": "line"}),
 }
 
 
@@ -102,6 +115,13 @@ class Interface(unittest.TestCase):
                 for passed in [many - 1, many + 1]:
                     with self.assertRaises(TypeError):
                         getattr(module, name)(*[()] * passed)
+
+    def test_the_readme_tells_all_files(self):
+        with open(os.path.join(ROOT, "README.md"), encoding="utf-8") as file:
+            text = file.read()
+        for name in os.listdir(os.path.join(ROOT, "curtainsteps")):
+            if name.endswith(".py") and name != "__init__.py":
+                self.assertIn(f"`{name}`", text)
 
 
 if __name__ == "__main__":
