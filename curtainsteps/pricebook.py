@@ -2,7 +2,7 @@
 
 from curtainsteps.books import need_claim
 from curtainsteps.bounds import greatest_mean, least_mean
-from curtainsteps.days import need_days, open_numbers
+from curtainsteps.days import open_numbers
 from curtainsteps.errors import BadDays, BadLabel, BadNumber, BadQuote, Missing, NothingLeft, TooMany
 from curtainsteps.forms import is_whole, is_word
 from curtainsteps.hedges import MOST_QUOTES, are_bid_and_ask
@@ -51,7 +51,6 @@ class Pricebook:
     """
 
     def __init__(self, days):
-        need_days(days)
         if open_numbers(days)[0] == ():
             raise BadDays(days)
         self.dates = days
